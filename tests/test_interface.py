@@ -1,0 +1,40 @@
+"""The interface: which names stand in which file, and how they are called."""
+
+import ast
+import inspect
+import unittest
+from importlib import import_module
+from pathlib import Path
+
+PACKAGE = Path(__file__).resolve().parent.parent / "fewkept"
+
+CLASSES = {"errors": ["KeepError", "NoLink", "NoPlace", "TooMany", "NoKept", "NoPage", "NoText"]}
+FUNCTIONS = {
+    "links": {"is_place": "(thing)", "is_link": "(thing)", "rising": "(links)", "places": "(links)"},
+    "nets": {"net": "(links, *, struck=())", "net_paper": "(links, *, struck=())",
+             "shows_net": "(links, told, paper, *, struck=())", "joined": "(links, one, other)"},
+}
+
+
+def defined(name, kind):
+    tree = ast.parse((PACKAGE / f"{name}.py").read_text())
+    return [node.name for node in tree.body if isinstance(node, kind)]
+
+
+class Interface(unittest.TestCase):
+    def test_classes_stand_in_their_files(self):
+        for name, words in CLASSES.items():
+            for word in words:
+                self.assertIn(word, defined(name, ast.ClassDef))
+                self.assertEqual(getattr(import_module(f"fewkept.{name}"), word).__module__, f"fewkept.{name}")
+
+    def test_functions_stand_in_their_files_with_their_arguments(self):
+        for name, calls in FUNCTIONS.items():
+            for word, arguments in calls.items():
+                self.assertIn(word, defined(name, ast.FunctionDef))
+                self.assertEqual(str(inspect.signature(getattr(import_module(f"fewkept.{name}"), word))), arguments)
+
+    def test_the_init_defines_nothing(self):
+        tree = ast.parse((PACKAGE / "__init__.py").read_text())
+        for node in tree.body:
+            self.assertTrue(isinstance(node, ast.Expr) and isinstance(node.value, ast.Constant))
