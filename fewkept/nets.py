@@ -6,23 +6,23 @@ from fewkept.links import is_link, places, rising
 
 def net(links, *, struck=()):
     """The net of these links, some of them struck: a rising list."""
-    return _taken(_unstruck(links, struck))
+    return taken(_unstruck(links, struck))
 
 
 def net_paper(links, *, struck=()):
     """From each unstruck link that the net lacks to the way of lesser net links that stands for it."""
     free = _unstruck(links, struck)
-    chosen = _taken(free)
+    chosen = taken(free)
     return {link: least_way(chosen, link[2], link[3]) for link in free if link not in chosen}
 
 
 def shows_net(links, told, paper, *, struck=()):
     """Whether told and paper, whatever they are, show that told is the net."""
     free = _unstruck(links, struck)
-    if not _is_part(told, free):
+    if not is_part(told, free):
         return False
     chosen = list(told)
-    if _taken(chosen) != chosen:
+    if taken(chosen) != chosen:
         return False
     return _is_paper(paper, chosen, [link for link in free if link not in chosen])
 
@@ -41,6 +41,26 @@ def check_places(rows, one, other):
         raise NoPlace(one)
     if other not in known or other == one:
         raise NoPlace(other)
+
+
+def taken(rows):
+    """Those of a row that are taken as it is gone through: links, or pairs of places that stand for links."""
+    # Places bear one name for as long as what is taken joins them; links and pairs alike end with their two places.
+    names = {place: place for row in rows for place in row[-2:]}
+    chosen = []
+    for row in rows:
+        old, new = names[row[-2]], names[row[-1]]
+        if old != new:
+            chosen.append(row)
+            names = {place: new if name == old else name for place, name in names.items()}
+    return chosen
+
+
+def is_part(thing, rows):
+    """Whether anything is a rising list of some of these rising links, each once."""
+    if not isinstance(thing, (list, tuple)) or not all([is_link(part) for part in thing]):
+        return False
+    return list(thing) == [link for link in rows if link in thing]
 
 
 def far_end(link, here):
@@ -101,25 +121,6 @@ def _unstruck(links, struck):
     rows = rising(links)
     gone = rising(struck)
     return [link for link in rows if link not in gone]
-
-
-def _taken(rows):
-    # Places bear one name for as long as taken links join them.
-    names = {place: place for link in rows for place in link[2:]}
-    taken = []
-    for link in rows:
-        old, new = names[link[2]], names[link[3]]
-        if old != new:
-            taken.append(link)
-            names = {place: new if name == old else name for place, name in names.items()}
-    return taken
-
-
-def _is_part(thing, rows):
-    # Whether anything is a rising list of some of these links, each once.
-    if not isinstance(thing, (list, tuple)) or not all([is_link(part) for part in thing]):
-        return False
-    return list(thing) == [link for link in rows if link in thing]
 
 
 def _is_paper(thing, chosen, others):

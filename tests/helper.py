@@ -114,6 +114,16 @@ def refusal(call, *args, **more):
     return None
 
 
+def refused_in_order(case, call, good, wrongs):
+    """A call refuses, of several wrong arguments, the one told first: wrongs are (name, worth, refusal), in order."""
+    case.assertIsNone(refusal(call, **good))
+    for many in range(1, len(good) + 1):
+        for chosen in combinations(wrongs, many):
+            if len({name for name, _, _ in chosen}) == many:
+                asked = {**good, **{name: worth for name, worth, _ in chosen}}
+                case.assertEqual(refusal(unchanged, case, call, **asked), chosen[0][2], asked)
+
+
 def otherwise(thing):
     """Every thing that is made of this one by one small change, at any depth."""
     if isinstance(thing, (list, tuple)):
@@ -125,6 +135,8 @@ def otherwise(thing):
                 yield kind([*thing[:at - 1], thing[at], thing[at - 1], *thing[at + 1:]])
             for part in otherwise(thing[at]):
                 yield kind([*thing[:at], part, *thing[at + 1:]])
+        if kind is tuple:
+            yield list(thing)
         yield kind([*thing, None])
         yield kind([*thing, GOOD])
         yield kind([*thing, (3, 7, "zz", "zzz")])
@@ -133,10 +145,10 @@ def otherwise(thing):
             rest = {k: w for k, w in thing.items() if k != key}
             yield rest
             for part in otherwise(key):
-                yield {**rest, part: worth}
+                if isinstance(part, tuple):
+                    yield {**rest, part: worth}
             for part in otherwise(worth):
                 yield {**rest, key: part}
-            yield {**rest, key: list(worth)}
         yield {**thing, GOOD: ()}
         yield {**thing, None: ()}
         yield {**thing, (3, 7, "zz", "zzz"): ()}
@@ -144,6 +156,10 @@ def otherwise(thing):
         yield thing + "a"
         yield thing[:-1]
         yield None
+    elif thing is None:
+        yield 0
+        yield False
+        yield ()
     else:
         yield thing + 1
         yield thing - 1

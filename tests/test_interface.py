@@ -13,6 +13,14 @@ FUNCTIONS = {
     "links": {"is_place": "(thing)", "is_link": "(thing)", "rising": "(links)", "places": "(links)"},
     "nets": {"net": "(links, *, struck=())", "net_paper": "(links, *, struck=())",
              "shows_net": "(links, told, paper, *, struck=())", "joined": "(links, one, other)"},
+    "ways": {"apart": "(links, one, other, many)", "wide": "(links, one, other)", "crossing": "(links, side)",
+             "are_ways": "(links, one, other, thing)", "is_side": "(links, one, other, thing)"},
+    "keeping": {"kept": "(links, r)", "keep_paper": "(links, r)", "shows_kept": "(links, r, told, paper)",
+                "strikes": "(links, r, link)", "splits": "(links, r)", "shows_splits": "(links, r, thing)"},
+    "pasts": {"sure": "(links, r, *, struck=())", "shows_sure": "(links, r, thing, *, struck=())",
+              "link_sure": "(links, r, link, *, struck=())", "shows_link": "(links, r, link, thing, *, struck=())",
+              "between": "(links, r, one, other, *, struck=())", "is_past": "(links, r, row)",
+              "past_net": "(links, r, row, *, struck=())", "other_past": "(links, r, *, struck=())"},
 }
 
 
