@@ -1,7 +1,7 @@
 """What is kept of links, what that shows, and how little it is (stage 4 of the document)."""
 
 from fewkept.errors import NoLink, TooMany
-from fewkept.links import is_link, is_number, places, rising
+from fewkept.links import ahead_of, is_link, is_number, places, rising
 from fewkept.nets import is_part
 from fewkept.ways import are_some, crossed, is_bundle, is_side_of, parted
 
@@ -40,7 +40,7 @@ def strikes(links, r, link):
         raise NoLink(0)
     _, side = paper[link]
     # Of the links that are left none crosses: as few as can be of the kept ones are as few as can be of all.
-    return tuple(crossed([row for row in _stays(paper) if row < link], side))
+    return tuple(crossed(ahead_of(_stays(paper), link), side))
 
 
 def splits(links, r):
@@ -59,9 +59,9 @@ def check_strikes(r):
         raise TooMany(MOST_STRIKES)
 
 
-def weighed(rows, r):
-    """As keep_paper tells it, by rising links."""
-    paper, stays = {}, []
+def weighed(rows, r, ahead=()):
+    """As keep_paper tells it of rising links; all of those ahead of them are kept."""
+    paper, stays = {}, list(ahead)
     for link in rows:
         word, shown = parted(stays, link[2], link[3], r + 1)
         if word == "ways":
@@ -70,6 +70,16 @@ def weighed(rows, r):
             paper[link] = ("kept", shown)
             stays.append(link)
     return paper
+
+
+def has_side(names, stays, r, link, thing):
+    """Whether anything is a side of a link's two places, of these places, that at most r lesser kept ones cross."""
+    return is_side_of(names, link[2], link[3], thing) and len(crossed(ahead_of(stays, link), thing)) <= r
+
+
+def has_ways(stays, r, link, thing):
+    """Whether anything is r + 1 ways between a link's two places by lesser kept ones."""
+    return is_bundle(ahead_of(stays, link), link[2], link[3], thing) and len(thing) == r + 1
 
 
 def _stays(paper):
@@ -81,10 +91,9 @@ def _is_shown(names, r, stays, link, thing):
     if not isinstance(thing, tuple) or len(thing) != 2:
         return False
     word, shown = thing
-    lesser = [row for row in stays if row < link]
     if link in stays:
-        return word == "kept" and is_side_of(names, link[2], link[3], shown) and len(crossed(lesser, shown)) <= r
-    return word == "left" and is_bundle(lesser, link[2], link[3], shown) and len(shown) == r + 1
+        return word == "kept" and has_side(names, stays, r, link, shown)
+    return word == "left" and has_ways(stays, r, link, shown)
 
 
 def _tree(rows, r):

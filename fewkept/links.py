@@ -42,3 +42,8 @@ def places(links):
     """The rising list of all places that these links join."""
     rows = rising(links)
     return sorted({place for link in rows for place in link[2:]})
+
+
+def ahead_of(rows, link):
+    """Those of these links that are lesser than this one."""
+    return [row for row in rows if row < link]

@@ -1,7 +1,7 @@
 """The net of links, the paper that shows it, and ways (stage 2 of the document)."""
 
 from fewkept.errors import NoPlace
-from fewkept.links import is_link, places, rising
+from fewkept.links import ahead_of, is_link, places, rising
 
 
 def net(links, *, struck=()):
@@ -129,4 +129,4 @@ def _is_paper(thing, chosen, others):
         return False
     if sorted(thing) != others:
         return False
-    return all([is_way([row for row in chosen if row < link], link[2], link[3], thing[link]) for link in others])
+    return all([is_way(ahead_of(chosen, link), link[2], link[3], thing[link]) for link in others])

@@ -2,7 +2,7 @@
 
 from fewkept.errors import NoKept, NoLink
 from fewkept.keeping import check_strikes, weighed
-from fewkept.links import is_link, is_number, is_place, places, rising
+from fewkept.links import ahead_of, is_link, is_number, is_place, places, rising
 from fewkept.nets import check_places, far_end, is_way, least_way, taken
 from fewkept.ways import are_some, crossed, is_bundle, is_rising, is_side_of, parted
 
@@ -12,7 +12,7 @@ def sure(links, r, *, struck=()):
     rows, free = _kept_ones(links, r, struck)
     chosen = taken(free)
     paper = {}
-    for one, other in _pairs(rows):
+    for one, other in place_pairs(rows):
         way = least_way(chosen, one, other)
         gap = _gap_of(rows, way)
         # By these alone no unstruck way leads there: a forgotten link between the two would make another net.
@@ -28,11 +28,7 @@ def sure(links, r, *, struck=()):
 def shows_sure(links, r, thing, *, struck=()):
     """Whether anything is such an answer."""
     rows, free = _kept_ones(links, r, struck)
-    if not isinstance(thing, tuple):
-        return False
-    if len(thing) == 2 and thing[0] == "sure":
-        return _is_sure(rows, free, r, thing[1])
-    return len(thing) == 6 and thing[0] == "unsure" and _is_unsure(rows, free, r, thing)
+    return is_sure_answer(rows, free, r, thing)
 
 
 def link_sure(links, r, link, *, struck=()):
@@ -40,7 +36,7 @@ def link_sure(links, r, link, *, struck=()):
     rows, free = _kept_ones(links, r, struck)
     _check_net(free, link)
     _, _, one, other = link
-    lesser, usable = _ahead_of(rows, link), _ahead_of(free, link)
+    lesser, usable = ahead_of(rows, link), ahead_of(free, link)
     names = places(rows)
     sides = _parting_sides(lesser, names, r)
     steps = _steps_from(usable, names, sides, one)
@@ -54,16 +50,7 @@ def shows_link(links, r, link, thing, *, struck=()):
     """Whether anything is such an answer, however many steps a path has."""
     rows, free = _kept_ones(links, r, struck)
     _check_net(free, link)
-    if not isinstance(thing, tuple) or len(thing) != 3:
-        return False
-    word, side, shown = thing
-    lesser, usable = _ahead_of(rows, link), _ahead_of(free, link)
-    names = places(rows)
-    if not is_side_of(names, link[2], link[3], side) or crossed(usable, side):
-        return False
-    if word == "in":
-        return _are_parting(lesser, names, r, side, shown)
-    return word == "open" and _is_path(lesser, usable, r, link, shown)
+    return is_link_answer(rows, free, r, link, thing)
 
 
 def between(links, r, one, other, *, struck=()):
@@ -108,6 +95,35 @@ def other_past(links, r, *, struck=()):
     return [*rows[:gap], (one, other), *rows[gap:]]
 
 
+def is_sure_answer(rows, free, r, thing):
+    """As shows_sure tells it, by rising kept ones and those of them that aren't struck; nothing is sought."""
+    if not isinstance(thing, tuple):
+        return False
+    if len(thing) == 2 and thing[0] == "sure":
+        return _is_sure(rows, free, r, thing[1])
+    return len(thing) == 6 and thing[0] == "unsure" and _is_unsure(rows, free, r, thing)
+
+
+def is_link_answer(rows, free, r, link, thing):
+    """As shows_link tells it, by rising kept ones and those of them that aren't struck; nothing is sought."""
+    if not isinstance(thing, tuple) or len(thing) != 3:
+        return False
+    word, side, shown = thing
+    lesser, usable = ahead_of(rows, link), ahead_of(free, link)
+    names = places(rows)
+    if not is_side_of(names, link[2], link[3], side) or crossed(usable, side):
+        return False
+    if word == "in":
+        return _are_parting(lesser, names, r, side, shown)
+    return word == "open" and _is_path(lesser, usable, r, link, shown)
+
+
+def place_pairs(rows):
+    """All pairs (one, other) of these links' places, one ahead of other, rising."""
+    names = places(rows)
+    return [(one, other) for one in names for other in names if one < other]
+
+
 def _kept_ones(links, r, struck):
     # The rising kept ones, and those of them that aren't struck; what is refused comes in this order.
     rows = rising(links)
@@ -125,22 +141,13 @@ def _check_net(free, link):
         raise NoLink(0)
 
 
-def _pairs(rows):
-    names = places(rows)
-    return [(one, other) for one in names for other in names if one < other]
-
-
-def _ahead_of(rows, link):
-    return [row for row in rows if row < link]
-
-
 def _gap_of(rows, way):
     # The least gap of which all links of the way are ahead.
     return None if way is None else rows.index(max(way)) + 1
 
 
 def _is_sure(rows, free, r, paper):
-    pairs = _pairs(rows)
+    pairs = place_pairs(rows)
     if not isinstance(paper, dict) or len(paper) != len(pairs) or not all([pair in paper for pair in pairs]):
         return False
     names = places(rows)

@@ -123,6 +123,21 @@ def row_net(row, struck):
     return [row[at] for at in taken]
 
 
+def all_paths(lesser, r, one, other, passed=()):
+    """Paths of lesser links, struck or not, and of steps with r to r + 2 ways."""
+    if one == other:
+        yield ()
+        return
+    for there in spots(lesser):
+        if there not in (*passed, one):
+            steps = [link for link in lesser if {*link[2:]} == {one, there}]
+            for many in range(max(1, r), r + 3):
+                steps += [(one, there, ways) for ways in bundles(lesser, one, there, many)]
+            for step in steps:
+                for rest in all_paths(lesser, r, there, other, (*passed, one)):
+                    yield (step, *rest)
+
+
 def joins(links, pairs, one, other):
     """Whether these links and pairs together lead from one place to another one."""
     rows = [*links, *[(0, at, *pair) for at, pair in enumerate(pairs)]]

@@ -1,14 +1,18 @@
-"""Stages 3 to 5 at the sizes that the document tells: 12 places and 200 links."""
+"""Stages 3 to 8 at the sizes that the document tells: 12 places and 200 links."""
 
 import random
 import time
 import unittest
 from itertools import combinations
 
+from fewkept.desk import Desk
+from fewkept.houses import House
+from fewkept.judging import Noted, judged
 from fewkept.keeping import keep_paper, kept, shows_kept, shows_splits, splits, strikes
 from fewkept.links import places
 from fewkept.nets import net
 from fewkept.pasts import between, is_past, link_sure, other_past, past_net, shows_link, shows_sure, sure
+from fewkept.texts import link_text, page_text, read_page
 from fewkept.ways import apart, are_ways, crossing, is_side, wide
 from tests.helper import refusal
 
@@ -28,13 +32,16 @@ def large_sets():
     yield [(dice.randint(0, 3), at, *sorted(dice.sample(NAMES[:5] if at % 9 else NAMES, 2))) for at in range(200)]
 
 
-class Large(unittest.TestCase):
+class Timed(unittest.TestCase):
     def timed(self, call, *args, **more):
+        """What a call tells, when it doesn't take long."""
         begin = time.perf_counter()
         told = call(*args, **more)
         self.assertLess(time.perf_counter() - begin, MOST_SECONDS)
         return told
 
+
+class Large(Timed):
     def test_ways_and_sides(self):
         for links in large_sets():
             for one, other in list(combinations(places(links), 2))[::3]:
@@ -143,3 +150,78 @@ class Large(unittest.TestCase):
                 late -= 1
             row = [part for at, link in enumerate(rows) for part in ([link] + alike[:1] * (at + 1 >= late))]
             self.assertIs(self.timed(is_past, rows, 5, row), True)
+
+
+def orders(links):
+    """These links in several orders: the worst are those in which each new one is lesser than all that are kept."""
+    rows = sorted(links)
+    middle = len(rows) // 2
+    yield rows
+    yield rows[::-1]
+    yield random.Random(31).sample(rows, len(rows))
+    yield [rows[at] for pair in zip(range(middle, len(rows)), range(middle - 1, -1, -1)) for at in pair]
+
+
+class LargeHouses(Timed):
+    def live(self, house, links, struck):
+        """All that a house may hear, strike and tell."""
+        for link in links:
+            house.hear(link)
+        for link in struck:
+            house.strike(link)
+        house.take(house.page())
+        house.sure()
+        for link in house.net():
+            house.surely(link)
+        for one, other in list(combinations(places(links), 2))[::9]:
+            house.between(one, other)
+
+    def test_houses_and_judges(self):
+        for links in large_sets():
+            for r in range(6):
+                rows = kept(links, r)
+                struck = random.Random(r).sample(links, 100) + [(at, 7, "q", "qq") for at in range(100)]
+                houses = []
+                for order in orders(links):
+                    house = Noted(r)
+                    self.timed(self.live, house, order, struck)
+                    self.assertEqual((house.links(), house.struck()), (rows, sorted(set(struck))))
+                    record = house.record()
+                    self.assertIsNone(self.timed(judged, record))
+                    wrong = (r, (*record[1][:-1], (*record[1][-1][:-1], ("in", (), ()))))
+                    self.assertEqual(self.timed(judged, wrong), len(record[1]) - 1)
+                    houses.append(house)
+                self.assertTrue(all(house == houses[0] for house in houses))
+                text = self.timed(page_text, houses[0].page())
+                page = self.timed(read_page, text)
+                self.assertEqual(page, houses[0].page())
+                for less in range(r + 1):
+                    twin, other = houses[0].twin(), House(less)
+                    self.timed(other.take, page)
+                    gone, stands = self.timed(twin.lessen, less)
+                    self.assertTrue(twin == other and len(gone) + len(stands) == len(rows))
+                    self.assertEqual(other.links(), kept(links, less))
+                    self.assertIsNone(self.timed(judged, twin.record()))
+
+    def test_pages_of_many_houses(self):
+        for links in large_sets():
+            whole = Noted(5)
+            for at in range(7):
+                part = Noted(5)
+                self.timed(self.live, part, links[at::7], links[at::9])
+                self.timed(whole.take, part.page())
+            self.assertEqual(whole.links(), kept(links, 5))
+            self.assertIsNone(self.timed(judged, whole.record()))
+
+    def test_desks(self):
+        for links in large_sets():
+            for order in orders(links):
+                desk = Desk(5)
+                rows = [f"link {link_text(link)}" for link in order]
+                rows += [f"strike {link_text(link)}" for link in order[::3]] + ["net", "sure", "keeps"]
+                rows += [f"{word} {link_text(link)}" for link in order[::5] for word in ("surely", "why")]
+                rows += [f"{word} {one} {other}" for word in ("between", "wide")
+                         for one, other in list(combinations(places(links), 2))[::7]]
+                answers = self.timed(lambda: [desk.answer(row) for row in [*rows, "lessen 0", "keeps"]])
+                self.assertNotIn("what", answers)
+                self.assertEqual(answers[-1], str(len(places(links)) - 1))

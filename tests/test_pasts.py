@@ -6,8 +6,8 @@ from itertools import combinations, permutations, product
 from fewkept.pasts import link_sure, other_past, past_net, shows_link, shows_sure, sure
 from tests.helper import GOOD, all_ways, otherwise, same, things, unchanged
 from tests.judges import right_link, right_sure
-from tests.slow import (alike_pairs, all_pasts, bundles, fewest_alike, kept_sets, row_net, slow_wide, spots,
-                        subsets)
+from tests.slow import (alike_pairs, all_pasts, all_paths, bundles, fewest_alike, kept_sets, row_net, slow_wide,
+                        spots, subsets)
 
 # Two by two between a and b and between c and d; a link between b and c, and one between a and d.
 TWICE_AB = [(0, 0, "a", "b"), (0, 1, "a", "b")]
@@ -226,21 +226,6 @@ class LinkSure(unittest.TestCase):
                 if {tuple(sorted((one, two))), tuple(sorted((two, three)))} <= alike:
                     self.assertIn(tuple(sorted((one, three))), alike)
                     self.assertGreater(slow_wide(rows, one, three), r)
-
-
-def all_paths(lesser, r, one, other, passed=()):
-    """Paths of lesser links, struck or not, and of steps with r to r + 2 ways."""
-    if one == other:
-        yield ()
-        return
-    for there in spots(lesser):
-        if there not in (*passed, one):
-            steps = [link for link in lesser if {*link[2:]} == {one, there}]
-            for many in range(max(1, r), r + 3):
-                steps += [(one, there, ways) for ways in bundles(lesser, one, there, many)]
-            for step in steps:
-                for rest in all_paths(lesser, r, there, other, (*passed, one)):
-                    yield (step, *rest)
 
 
 class ShownLink(unittest.TestCase):

@@ -10,7 +10,7 @@ README = Path(__file__).resolve().parent.parent / "README.md"
 class Examples(unittest.TestCase):
     def test_examples(self):
         blocks = re.findall(r"```python\n(.*?)```", README.read_text(), re.S)
-        self.assertEqual(len(blocks), 4)
+        self.assertEqual(len(blocks), 7)
         for block in blocks:
             names = {}
             for row in block.splitlines():

@@ -149,6 +149,28 @@ class Code(unittest.TestCase):
             if isinstance(node.func, ast.Attribute):
                 self.assertIn(node.func.attr, METHODS | own | DOUBLE, stem)
 
+    def test_no_name_is_a_method_and_an_attribute(self):
+        methods = {part.name for _, node in nodes(ast.ClassDef) for part in node.body if isinstance(part, ast.FunctionDef)}
+        stored = {node.attr for _, node in nodes(ast.Attribute) if isinstance(node.ctx, ast.Store)}
+        self.assertFalse(methods & stored)
+        called = {id(node.func) for _, node in nodes(ast.Call)}
+        for stem, node in nodes(ast.Attribute):
+            if isinstance(node.ctx, ast.Load) and id(node) not in called and node.attr != "__class__":
+                self.assertIn(node.attr, stored, stem)
+
+    def test_no_generators_beside_a_class_that_compares(self):
+        for stem, node in nodes(ast.GeneratorExp, ast.Yield, ast.YieldFrom):
+            self.fail(f"{stem}:{getattr(node, 'lineno', 0)}")
+
+    def test_tables_of_functions_are_called_by_a_name(self):
+        for stem, node in nodes(ast.Call):
+            self.assertIsInstance(node.func, (ast.Name, ast.Attribute), stem)
+
+    def test_what_compares_and_measures_changes_nothing(self):
+        for stem, node in nodes(ast.FunctionDef):
+            if node.name in ("__eq__", "__len__"):
+                self.assertEqual([type(part).__name__ for part in node.body], ["Return"], stem)
+
     def test_sets_are_kept_as_told(self):
         for stem, node in nodes(ast.Return):
             self.assertNotIsInstance(node.value, (ast.Set, ast.SetComp), stem)
